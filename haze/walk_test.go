@@ -1,0 +1,135 @@
+package haze
+
+import (
+	"testing"
+
+	"haze/api"
+	"haze/spots"
+)
+
+// dice gives numbers that look as if by chance, and are the same in every run.
+type dice uint64
+
+func (d *dice) roll(n int) int {
+	*d = *d*6364136223846793005 + 1442695040888963407
+	return int(uint64(*d)>>33) % n
+}
+
+func (d *dice) pick(list []string) string { return list[d.roll(len(list))] }
+
+func (d *dice) config() api.Config {
+	c := api.Config{Width: 3 + d.roll(8), Height: 3 + d.roll(8), Sight: 1 + d.roll(4)}
+	for range 2 + d.roll(3) {
+		c.Starts = append(c.Starts, api.Spot{X: d.roll(c.Width), Y: d.roll(c.Height)})
+	}
+	for range d.roll(7) {
+		c.Ore = append(c.Ore, api.Spot{X: d.roll(c.Width), Y: d.roll(c.Height), Amount: 1 + d.roll(99)})
+	}
+	return c
+}
+
+func (d *dice) text() string {
+	name := []string{"a", "a", "a", "b", "b", "c", "β", "bid"}
+	verb := []string{"go", "go", "left", "right", "back", "dig", "dig", "sell", "dance", "dig x"}
+	last := []string{"a", "b", "c", "d", "e", "β", "bid", "5", "01", "", "a b"}
+	if d.roll(3) > 0 {
+		return d.pick(name) + " " + d.pick(verb)
+	}
+	return d.pick(name) + " " + d.pick([]string{"build", "build", "call", "x"}) + " " + d.pick(last)
+}
+
+// sums is what all players have: ore in the ground and in cargoes, money, units.
+type sums struct{ ground, cargo, money, units int }
+
+func count(w *World) sums {
+	var s sums
+	for _, n := range w.ore {
+		s.ground += n
+	}
+	for _, p := range w.players {
+		s.money += p.money
+		s.units += len(p.units)
+		for _, u := range p.units {
+			s.cargo += u.cargo
+		}
+	}
+	return s
+}
+
+// sound holds a world against what the document says of units, spots and sums.
+func sound(t *testing.T, w *World, first sums) {
+	t.Helper()
+	seen := map[spots.Spot]bool{}
+	for number, p := range w.players {
+		names := map[string]bool{}
+		for _, u := range p.units {
+			if names[u.name] || seen[u.at] || !w.sides.Hold(u.at) || u.cargo < 0 || u.cargo > api.MaxCargo {
+				t.Fatalf("player %d: a unit that may not be: %+v", number, *u)
+			}
+			if n, ok := w.stands[u.at]; !ok || n != number {
+				t.Fatalf("the map knows nothing of %+v of player %d", *u, number)
+			}
+			if len(letter(u.heading)) != 1 {
+				t.Fatalf("player %d: %s", number, letter(u.heading))
+			}
+			names[u.name], seen[u.at] = true, true
+		}
+		if p.money < 0 || len(p.units) < 1 || len(p.units) > api.MaxUnits {
+			t.Fatalf("player %d: money %d, %d units", number, p.money, len(p.units))
+		}
+	}
+	if len(seen) != len(w.stands) {
+		t.Fatalf("%d units, %d in the map", len(seen), len(w.stands))
+	}
+	for at, n := range w.ore {
+		if n < 1 || n > api.MaxOre || !w.sides.Hold(at) {
+			t.Fatalf("ore %d at %v", n, at)
+		}
+	}
+	now := count(w)
+	sold := first.ground - now.ground - now.cargo
+	built := now.units - first.units
+	if sold < 0 || now.money != first.money+api.Price*sold-api.Cost*built {
+		t.Fatalf("at first %+v, now %+v", first, now)
+	}
+}
+
+// TestWalks: two worlds that are told the same are the same; what is refused changes nothing; and each stays sound.
+func TestWalks(t *testing.T) {
+	var d dice
+	made, built := 0, 0
+	for range 100 {
+		c := d.config()
+		w, e := New(c)
+		twin, e2 := New(c)
+		if e != e2 || (w == nil) != (e != api.OK) {
+			t.Fatalf("New(%+v): %d, %d", c, e, e2)
+		}
+		if w == nil {
+			continue
+		}
+		made++
+		first := count(w)
+		for range 300 {
+			before := whole(w)
+			var e, e2 api.Errno
+			if d.roll(4) == 0 {
+				e, e2 = w.Tick(), twin.Tick()
+			} else {
+				player, text := d.roll(6)-1, d.text()
+				e, e2 = w.Order(player, text), twin.Order(player, text)
+			}
+			if e != e2 || whole(w) != whole(twin) {
+				t.Fatalf("two worlds differ: %d, %d\n%s\n%s", e, e2, whole(w), whole(twin))
+			}
+			if e != api.OK && whole(w) != before {
+				t.Fatalf("with the error %d the world is another one:\n%s\n%s", e, before, whole(w))
+			}
+			sound(t, w, first)
+		}
+		built += count(w).units - first.units
+	}
+	if made < 50 || built < 100 {
+		t.Errorf("the walks are too tame: %d worlds, %d units built", made, built)
+	}
+}
