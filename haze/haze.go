@@ -13,6 +13,7 @@ import (
 type World struct {
 	tick    int
 	sides   spots.Sides
+	sight   int                // how far a unit sees
 	ore     map[spots.Spot]int // how much there is; no spot without any
 	stands  map[spots.Spot]int // the number of the player whose unit stands there
 	players []player
@@ -25,6 +26,7 @@ func New(c api.Config) (*World, api.Errno) {
 	}
 	w := &World{
 		sides:   spots.Sides{Width: c.Width, Height: c.Height},
+		sight:   c.Sight,
 		ore:     make(map[spots.Spot]int),
 		stands:  make(map[spots.Spot]int),
 		players: make([]player, len(c.Starts)),
@@ -79,7 +81,15 @@ func (w *World) Tick() api.Errno {
 }
 
 // View tells what a player sees (P8).
-func (w *World) View(player int) (string, api.Errno) { return "", api.OK }
+func (w *World) View(player int) (string, api.Errno) {
+	if !w.has(player) {
+		return "", api.ErrArg
+	}
+	var b strings.Builder
+	w.tellOwn(&b, player)
+	w.tellNear(&b, player)
+	return b.String(), api.OK
+}
 
 // Money tells what a player has (P8).
 func (w *World) Money(player int) (int, api.Errno) {

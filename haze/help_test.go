@@ -72,6 +72,15 @@ func units(t *testing.T, w *World, player int, want ...string) {
 	}
 }
 
+// view holds what a player sees against these lines.
+func view(t *testing.T, w *World, player int, want ...string) {
+	t.Helper()
+	text := strings.Join(want, "\n") + "\n"
+	if s, e := w.View(player); s != text || e != api.OK {
+		t.Errorf("View(%d) = %q, %d, want %q", player, s, e, text)
+	}
+}
+
 func letter(h spots.Heading) string {
 	switch h {
 	case spots.East:
@@ -89,7 +98,7 @@ func letter(h spots.Heading) string {
 // whole tells all that a world keeps.
 func whole(w *World) string {
 	var b strings.Builder
-	fmt.Fprintf(&b, "%d %v %v %v\n", w.tick, w.sides, w.ore, w.stands)
+	fmt.Fprintf(&b, "%d %v %d %v %v\n", w.tick, w.sides, w.sight, w.ore, w.stands)
 	for _, p := range w.players {
 		fmt.Fprintln(&b, p.money)
 		for _, u := range p.units {

@@ -11,25 +11,21 @@ import (
 // TestField is what the document tells of THE FIELD.
 func TestField(t *testing.T) {
 	w := begin(t, field())
-	units(t, w, 0, "a 0 0 e cargo 0")
-	units(t, w, 1, "a 4 3 e cargo 0")
+	view(t, w, 0, "tick 0 money 100", "unit a 0 0 e cargo 0", "ore 1 0 3")
+	view(t, w, 1, "tick 0 money 100", "unit a 4 3 e cargo 0")
 	obey(t, w, 0, "a go")
-	units(t, w, 0, "a 1 0 e cargo 0")
+	view(t, w, 0, "tick 1 money 100", "unit a 1 0 e cargo 0", "ore 1 0 3")
 	obey(t, w, 0, "a dig")
-	units(t, w, 0, "a 1 0 e cargo 1")
-	if n := w.ore[spots.At(1, 0)]; n != 2 {
-		t.Errorf("ore that is left: %d", n)
-	}
+	view(t, w, 0, "tick 2 money 100", "unit a 1 0 e cargo 1", "ore 1 0 2")
 	obey(t, w, 0, "a sell")
-	units(t, w, 0, "a 1 0 e cargo 0")
-	money(t, w, 0, 110)
+	view(t, w, 0, "tick 3 money 110", "unit a 1 0 e cargo 0", "ore 1 0 2")
 	obey(t, w, 0, "a left")
-	units(t, w, 0, "a 1 0 n cargo 0")
+	view(t, w, 0, "tick 4 money 110", "unit a 1 0 n cargo 0", "ore 1 0 2")
 	obey(t, w, 0, "a build β")
 	money(t, w, 0, 60)
-	units(t, w, 0, "a 1 0 n cargo 0", "β 1 1 n cargo 0")
+	view(t, w, 0, "tick 5 money 60", "unit a 1 0 n cargo 0", "unit β 1 1 n cargo 0", "ore 1 0 2")
 	obey(t, w, 1, "a go")
-	units(t, w, 1, "a 4 3 e cargo 0")
+	view(t, w, 1, "tick 6 money 100", "unit a 4 3 e cargo 0")
 	order(t, w, 0, api.ErrText, "a dance", "a  go", "A go", "a build", "bid x 01")
 	order(t, w, 0, api.ErrName, "b go", "bid x 5")
 }

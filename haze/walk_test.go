@@ -1,6 +1,10 @@
 package haze
 
 import (
+	"cmp"
+	"fmt"
+	"slices"
+	"strings"
 	"testing"
 
 	"haze/api"
@@ -94,10 +98,70 @@ func sound(t *testing.T, w *World, first sums) {
 	}
 }
 
-// TestWalks: two worlds that are told the same are the same; what is refused changes nothing; and each stays sound.
+// seen is what a player sees by the document's words: from what the maps hold to lines that are sorted, not from spot to spot.
+func seen(w *World, number int) string {
+	type row struct {
+		y, x, kind int
+		text       string
+	}
+	p := w.players[number]
+	near := func(at spots.Spot) bool {
+		for _, u := range p.units {
+			dx, dy := int(real(at))-int(real(u.at)), int(imag(at))-int(imag(u.at))
+			if -w.sight <= dx && dx <= w.sight && -w.sight <= dy && dy <= w.sight {
+				return true
+			}
+		}
+		return false
+	}
+	var rows []row
+	for at, n := range w.ore {
+		if x, y := int(real(at)), int(imag(at)); near(at) {
+			rows = append(rows, row{y, x, 0, fmt.Sprintf("ore %d %d %d\n", x, y, n)})
+		}
+	}
+	for other, q := range w.players {
+		for _, u := range q.units {
+			if x, y := int(real(u.at)), int(imag(u.at)); other != number && near(u.at) {
+				rows = append(rows, row{y, x, 1, fmt.Sprintf("other %d %d %d\n", x, y, other)})
+			}
+		}
+	}
+	slices.SortFunc(rows, func(a, b row) int {
+		return cmp.Or(a.y-b.y, a.x-b.x, a.kind-b.kind)
+	})
+	text := fmt.Sprintf("tick %d money %d\n", w.tick, p.money)
+	for _, u := range p.units {
+		text += fmt.Sprintf("unit %s %v %v %s cargo %d\n", u.name, real(u.at), imag(u.at), letter(u.heading), u.cargo)
+	}
+	for _, r := range rows {
+		text += r.text
+	}
+	return text
+}
+
+// looked lets all players look, and holds that against what they should see; it gives how many lines told of others and of ore.
+func looked(t *testing.T, w *World) (others, ores int) {
+	t.Helper()
+	before := whole(w)
+	for number := range w.players {
+		got, e := w.View(number)
+		if want := seen(w, number); got != want || e != api.OK {
+			t.Fatalf("View(%d) = %q, %d, want %q", number, got, e, want)
+		}
+		others += strings.Count(got, "other ")
+		ores += strings.Count(got, "ore ")
+	}
+	if whole(w) != before {
+		t.Fatal("to look changed the world")
+	}
+	return others, ores
+}
+
+// TestWalks: two worlds that are told the same are the same; what is refused changes nothing; and each stays sound, and is seen as it is.
 func TestWalks(t *testing.T) {
 	var d dice
-	made, built := 0, 0
+	made, built, others, ores := 0, 0, 0, 0
 	for range 100 {
 		c := d.config()
 		w, e := New(c)
@@ -126,10 +190,12 @@ func TestWalks(t *testing.T) {
 				t.Fatalf("with the error %d the world is another one:\n%s\n%s", e, before, whole(w))
 			}
 			sound(t, w, first)
+			n, m := looked(t, w)
+			others, ores = others+n, ores+m
 		}
 		built += count(w).units - first.units
 	}
-	if made < 50 || built < 100 {
-		t.Errorf("the walks are too tame: %d worlds, %d units built", made, built)
+	if made < 50 || built < 100 || others < 1000 || ores < 1000 {
+		t.Errorf("the walks are too tame: %d worlds, %d units built, %d others and %d spots of ore seen", made, built, others, ores)
 	}
 }

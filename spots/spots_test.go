@@ -55,6 +55,48 @@ func TestAhead(t *testing.T) {
 	}
 }
 
+func TestXY(t *testing.T) {
+	for x := range 10 {
+		for y := range 10 {
+			if at := At(x, y); at.X() != x || at.Y() != y {
+				t.Errorf("%d, %d is told as %d, %d", x, y, at.X(), at.Y())
+			}
+		}
+	}
+	at := At(1, 1) + Spot(East.Back()) + Spot(East.Right())
+	if at.X() != 0 || at.Y() != 0 {
+		t.Errorf("reached by turns: %d, %d", at.X(), at.Y())
+	}
+}
+
+func TestFar(t *testing.T) {
+	for _, c := range []struct{ x, y, want int }{
+		{3, 5, 0}, {4, 5, 1}, {2, 5, 1}, {3, 6, 1}, {3, 4, 1}, {4, 6, 1}, {2, 4, 1}, {4, 4, 1}, {2, 6, 1},
+		{5, 6, 2}, {1, 4, 2}, {4, 7, 2}, {2, 3, 2}, {0, 5, 3}, {0, 2, 3}, {0, 8, 3}, {0, 0, 5}, {3, 9, 4}, {9, 5, 6}, {9, 0, 6}, {9, 9, 6},
+	} {
+		one, other := At(3, 5), At(c.x, c.y)
+		if got := Far(one, other); got != c.want {
+			t.Errorf("3, 5 and %d, %d are far from each other by %d, want %d", c.x, c.y, got, c.want)
+		}
+		if Far(one, other) != Far(other, one) {
+			t.Errorf("3, 5 and %d, %d: there and back differ", c.x, c.y)
+		}
+	}
+}
+
+func TestLetter(t *testing.T) {
+	h := East
+	for i := range 40 {
+		if got, want := h.Letter(), "enws"[i%4:i%4+1]; got != want {
+			t.Errorf("%d times to the left: %s, want %s", i, got, want)
+		}
+		h = h.Left()
+	}
+	if got := East.Right().Letter() + East.Back().Letter() + East.Right().Back().Letter(); got != "swn" {
+		t.Errorf("right, back, both: %s", got)
+	}
+}
+
 func TestHold(t *testing.T) {
 	s := Sides{Width: 5, Height: 4}
 	for _, at := range []Spot{At(0, 0), At(4, 0), At(0, 3), At(4, 3), At(2, 1)} {
