@@ -1,10 +1,12 @@
-// Package haze: a small world in which each sees only what is near: see DOC.md.
+// Package haze: a small world in which each sees only what is near, and lots for which nobody sees the others' bids: see DOC.md.
 package haze
 
 import (
+	"slices"
 	"strings"
 
 	"haze/api"
+	"haze/lots"
 	"haze/orders"
 	"haze/spots"
 )
@@ -17,6 +19,8 @@ type World struct {
 	ore     map[spots.Spot]int // how much there is; no spot without any
 	stands  map[spots.Spot]int // the number of the player whose unit stands there
 	players []player
+	open    []lots.Lot  // in the order of their names
+	closed  []lots.Sale // at the last Tick, in the same order
 }
 
 // New makes a world (P3).
@@ -51,7 +55,7 @@ func (w *World) Order(player int, text string) api.Errno {
 		return api.ErrText
 	}
 	if o.Kind == orders.Bid {
-		return api.ErrName // no lot is open
+		return w.bid(player, o)
 	}
 	u := w.players[player].find(o.Unit)
 	if u == nil {
@@ -63,7 +67,24 @@ func (w *World) Order(player int, text string) api.Errno {
 }
 
 // Offer opens a lot (P6).
-func (w *World) Offer(name string, least int, ticks int) api.Errno { return api.OK }
+func (w *World) Offer(name string, least int, ticks int) api.Errno {
+	if !orders.IsName(name) {
+		return api.ErrText
+	}
+	place, taken := w.seek(name)
+	switch {
+	case taken:
+		return api.ErrTaken
+	case !between(least, 0, api.MaxBid) || !between(ticks, 1, api.MaxTicks):
+		return api.ErrArg
+	case len(w.open) >= api.MaxLots:
+		return api.ErrFull
+	}
+	// A copy of the name, for the one that came in is the caller's.
+	l := lots.Lot{Name: strings.Clone(name), Until: w.tick + ticks, Least: least}
+	w.open = slices.Insert(w.open, place, l)
+	return api.OK
+}
 
 // Tick lets all units do what they were told, and closes lots (P5, P7).
 func (w *World) Tick() api.Errno {
@@ -77,6 +98,7 @@ func (w *World) Tick() api.Errno {
 		}
 	}
 	w.tick++
+	w.closeLots()
 	return api.OK
 }
 
@@ -88,6 +110,8 @@ func (w *World) View(player int) (string, api.Errno) {
 	var b strings.Builder
 	w.tellOwn(&b, player)
 	w.tellNear(&b, player)
+	w.tellOpen(&b, player)
+	w.tellClosed(&b, player)
 	return b.String(), api.OK
 }
 

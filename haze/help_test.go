@@ -105,5 +105,6 @@ func whole(w *World) string {
 			fmt.Fprintf(&b, "%+v\n", *u)
 		}
 	}
+	fmt.Fprintf(&b, "%+v\n%+v\n", w.open, w.closed)
 	return b.String()
 }

@@ -101,7 +101,7 @@ func (w *World) dig(u *unit) {
 
 func (w *World) build(number int, u *unit, name string) {
 	p := &w.players[number]
-	if p.find(name) != nil || len(p.units) >= api.MaxUnits || p.money < api.Cost {
+	if p.find(name) != nil || len(p.units) >= api.MaxUnits || p.money-w.staked(number) < api.Cost {
 		return
 	}
 	next, ok := w.freeAhead(u)

@@ -4,6 +4,7 @@ import (
 	"strconv"
 	"strings"
 
+	"haze/lots"
 	"haze/spots"
 )
 
@@ -46,6 +47,31 @@ func (p *player) near(at spots.Spot, sight int) bool {
 		}
 	}
 	return false
+}
+
+// tellOpen tells the open lots, and of all bids for them only the player's own.
+func (w *World) tellOpen(b *strings.Builder, number int) {
+	for _, l := range w.open {
+		words := []string{"lot", l.Name, "until", strconv.Itoa(l.Until), "least", strconv.Itoa(l.Least)}
+		if bid := l.Bids[number]; bid > 0 {
+			words = append(words, "bid", strconv.Itoa(bid))
+		}
+		tell(b, words...)
+	}
+}
+
+// tellClosed tells what became of the lots that closed at the last Tick; the price is for the winner alone.
+func (w *World) tellClosed(b *strings.Builder, number int) {
+	for _, s := range w.closed {
+		switch s.Winner {
+		case number:
+			tell(b, "won", s.Name, "for", strconv.Itoa(s.Price))
+		case lots.Nobody:
+			tell(b, "passed", s.Name)
+		default:
+			tell(b, "sold", s.Name)
+		}
+	}
 }
 
 func where(at spots.Spot) string { return strconv.Itoa(at.X()) + " " + strconv.Itoa(at.Y()) }

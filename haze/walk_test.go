@@ -4,6 +4,7 @@ import (
 	"cmp"
 	"fmt"
 	"slices"
+	"strconv"
 	"strings"
 	"testing"
 
@@ -60,8 +61,8 @@ func count(w *World) sums {
 	return s
 }
 
-// sound holds a world against what the document says of units, spots and sums.
-func sound(t *testing.T, w *World, first sums) {
+// sound holds a world against what the document says of units, spots and sums; paid is what was paid for lots.
+func sound(t *testing.T, w *World, first sums, paid int) {
 	t.Helper()
 	seen := map[spots.Spot]bool{}
 	for number, p := range w.players {
@@ -78,8 +79,8 @@ func sound(t *testing.T, w *World, first sums) {
 			}
 			names[u.name], seen[u.at] = true, true
 		}
-		if p.money < 0 || len(p.units) < 1 || len(p.units) > api.MaxUnits {
-			t.Fatalf("player %d: money %d, %d units", number, p.money, len(p.units))
+		if p.money < w.staked(number) || len(p.units) < 1 || len(p.units) > api.MaxUnits {
+			t.Fatalf("player %d: money %d, bids of %d, %d units", number, p.money, w.staked(number), len(p.units))
 		}
 	}
 	if len(seen) != len(w.stands) {
@@ -93,12 +94,12 @@ func sound(t *testing.T, w *World, first sums) {
 	now := count(w)
 	sold := first.ground - now.ground - now.cargo
 	built := now.units - first.units
-	if sold < 0 || now.money != first.money+api.Price*sold-api.Cost*built {
-		t.Fatalf("at first %+v, now %+v", first, now)
+	if sold < 0 || now.money != first.money+api.Price*sold-api.Cost*built-paid {
+		t.Fatalf("at first %+v, now %+v, paid for lots: %d", first, now, paid)
 	}
 }
 
-// seen is what a player sees by the document's words: from what the maps hold to lines that are sorted, not from spot to spot.
+// seen is what a player sees, but for lots, by the document's words: from what the maps hold to lines that are sorted, not from spot to spot.
 func seen(w *World, number int) string {
 	type row struct {
 		y, x, kind int
@@ -141,12 +142,12 @@ func seen(w *World, number int) string {
 }
 
 // looked lets all players look, and holds that against what they should see; it gives how many lines told of others and of ore.
-func looked(t *testing.T, w *World) (others, ores int) {
+func looked(t *testing.T, w *World, k *book) (others, ores int) {
 	t.Helper()
 	before := whole(w)
 	for number := range w.players {
 		got, e := w.View(number)
-		if want := seen(w, number); got != want || e != api.OK {
+		if want := seen(w, number) + k.lines(number); got != want || e != api.OK {
 			t.Fatalf("View(%d) = %q, %d, want %q", number, got, e, want)
 		}
 		others += strings.Count(got, "other ")
@@ -158,10 +159,35 @@ func looked(t *testing.T, w *World) (others, ores int) {
 	return others, ores
 }
 
+// step makes one call on both worlds, by the dice, and enters it into the book, which knows what is to be answered where lots are concerned.
+func step(t *testing.T, d *dice, w, twin *World, k *book) (api.Errno, api.Errno) {
+	t.Helper()
+	player, text := d.roll(6)-1, d.text()
+	switch d.roll(8) {
+	case 0, 1:
+		k.tick()
+		return w.Tick(), twin.Tick()
+	case 2:
+		name, least, ticks := d.pick(lotNames), d.roll(15)-2, d.roll(9)
+		e := w.Offer(name, least, ticks)
+		if want := k.offer(name, least, ticks); e != want {
+			t.Fatalf("Offer(%q, %d, %d) = %d, want %d", name, least, ticks, e, want)
+		}
+		return e, twin.Offer(name, least, ticks)
+	case 3, 4:
+		text = "bid " + d.pick(lotNames) + " " + strconv.Itoa(d.roll(30)+d.roll(3)*d.roll(40))
+	}
+	e := w.Order(player, text)
+	if want, ok := k.order(w.players, player, text); ok && e != want {
+		t.Fatalf("Order(%d, %q) = %d, want %d", player, text, e, want)
+	}
+	return e, twin.Order(player, text)
+}
+
 // TestWalks: two worlds that are told the same are the same; what is refused changes nothing; and each stays sound, and is seen as it is.
 func TestWalks(t *testing.T) {
 	var d dice
-	made, built, others, ores := 0, 0, 0, 0
+	made, built, others, ores, won := 0, 0, 0, 0, 0
 	for range 100 {
 		c := d.config()
 		w, e := New(c)
@@ -173,29 +199,24 @@ func TestWalks(t *testing.T) {
 			continue
 		}
 		made++
-		first := count(w)
-		for range 300 {
+		first, k := count(w), newBook()
+		for range 600 {
 			before := whole(w)
-			var e, e2 api.Errno
-			if d.roll(4) == 0 {
-				e, e2 = w.Tick(), twin.Tick()
-			} else {
-				player, text := d.roll(6)-1, d.text()
-				e, e2 = w.Order(player, text), twin.Order(player, text)
-			}
+			e, e2 := step(t, &d, w, twin, k)
 			if e != e2 || whole(w) != whole(twin) {
 				t.Fatalf("two worlds differ: %d, %d\n%s\n%s", e, e2, whole(w), whole(twin))
 			}
 			if e != api.OK && whole(w) != before {
 				t.Fatalf("with the error %d the world is another one:\n%s\n%s", e, before, whole(w))
 			}
-			sound(t, w, first)
-			n, m := looked(t, w)
+			sound(t, w, first, k.paid)
+			n, m := looked(t, w, k)
 			others, ores = others+n, ores+m
 		}
 		built += count(w).units - first.units
+		won += k.won
 	}
-	if made < 50 || built < 100 || others < 1000 || ores < 1000 {
-		t.Errorf("the walks are too tame: %d worlds, %d units built, %d others and %d spots of ore seen", made, built, others, ores)
+	if made < 50 || built < 100 || others < 1000 || ores < 1000 || won < 500 {
+		t.Errorf("the walks are too tame: %d worlds, %d units built, %d others and %d spots of ore seen, %d lots won", made, built, others, ores, won)
 	}
 }

@@ -39,10 +39,10 @@ func Parse(text string) (Order, bool) {
 		return checked(Order{Kind: plainKind(list[1]), Unit: list[0]})
 	case 3:
 		// No name is a number: so a text is never both, a bid and an order for a unit called bid.
-		if n, ok := number(list[2]); ok && list[0] == "bid" && isName(list[1]) {
+		if n, ok := number(list[2]); ok && list[0] == "bid" && IsName(list[1]) {
 			return Order{Kind: Bid, Name: list[1], Number: n}, true
 		}
-		if !isName(list[2]) {
+		if !IsName(list[2]) {
 			return Order{}, false
 		}
 		return checked(Order{Kind: namingKind(list[1]), Unit: list[0], Name: list[2]})
@@ -52,7 +52,7 @@ func Parse(text string) (Order, bool) {
 
 // checked gives the order for a unit back if it is one.
 func checked(o Order) (Order, bool) {
-	if o.Kind == None || !isName(o.Unit) {
+	if o.Kind == None || !IsName(o.Unit) {
 		return Order{}, false
 	}
 	return o, true
@@ -105,8 +105,8 @@ func words(text string) []string {
 	return append(list, text[begin:])
 }
 
-// isName tells whether a word is a name.
-func isName(word string) bool {
+// IsName tells whether a word is a name.
+func IsName(word string) bool {
 	count := 0
 	for _, r := range word {
 		count++

@@ -86,6 +86,19 @@ func TestLength(t *testing.T) {
 	}
 }
 
+func TestIsName(t *testing.T) {
+	for _, s := range []string{"a", "z", "abcdef", "α", "ω", "αβγδεζ", "aβ", "bid", "go"} {
+		if !IsName(s) {
+			t.Errorf("%q is no name", s)
+		}
+	}
+	for _, s := range []string{"", " ", "a ", "a b", "A", "1", "a1", "abcdefg", "αβγδεζη", "\xce", "a\xff", "\ufffd", "é", strings.Repeat("a", 1000000)} {
+		if IsName(s) {
+			t.Errorf("%.40q is a name", s)
+		}
+	}
+}
+
 // FuzzParse: what is read is what was written, word by word.
 func FuzzParse(f *testing.F) {
 	for _, s := range []string{"a go", "a build β", "bid x 5", "bid build c", "a  go", "\xff go", "bid x 01"} {
